@@ -92,3 +92,13 @@ func sortBy[E any](compare func(a, b E) int, lists ...[]E) []E {
 	slices.SortStableFunc(sorted, compare)
 	return sorted
 }
+
+// every says whether all elements are ok.
+func every[E any](list []E, ok func(E) bool) bool {
+	for _, e := range list {
+		if !ok(e) {
+			return false
+		}
+	}
+	return true
+}
