@@ -52,12 +52,7 @@ func EvtPut(list []EvtEvt, e EvtEvt) []EvtEvt {
 
 // EvtRise says whether things happen in order, none of them twice.
 func EvtRise(list []EvtEvt) bool {
-	for i := 1; i < len(list); i++ {
-		if !EvtLess(list[i-1], list[i]) {
-			return false
-		}
-	}
-	return true
+	return ascending(evtCompare, list)
 }
 
 // EvtTake takes something that happens out of others; false, if it is none of them.
@@ -91,6 +86,16 @@ func sortBy[E any](compare func(a, b E) int, lists ...[]E) []E {
 	sorted := slices.Concat(lists...)
 	slices.SortStableFunc(sorted, compare)
 	return sorted
+}
+
+// ascending says whether every element is less than the next one.
+func ascending[E any](compare func(a, b E) int, list []E) bool {
+	for i := 1; i < len(list); i++ {
+		if compare(list[i-1], list[i]) >= 0 {
+			return false
+		}
+	}
+	return true
 }
 
 // every says whether all elements are ok.
