@@ -73,6 +73,12 @@ func visitByDefinition(v meeting) outcome {
 	case k.Round != g.Round && k.Round != g.Round+1:
 		return refused
 	}
+	return moveByDefinition(v)
+}
+
+// moveByDefinition is what a visit does, whether it is valid or not.
+func moveByDefinition(v meeting) outcome {
+	k, g, end := v.Tok, v.Mark, v.M.Until+1
 	if g.Round < k.Round {
 		g.Round, g.Least = k.Round, end
 	}

@@ -67,7 +67,31 @@ func spaced[T any](value T) T {
 
 // same says whether two values are the same; a nil list and an empty one are.
 func same[T any](a, b T) bool {
-	return reflect.DeepEqual(plain(a), plain(b))
+	return alike(reflect.ValueOf(a), reflect.ValueOf(b))
+}
+
+// alike says whether two values of one type, which hold no pointers, are the same.
+func alike(a, b reflect.Value) bool {
+	switch a.Kind() {
+	case reflect.Slice, reflect.Array:
+		if a.Len() != b.Len() {
+			return false
+		}
+		for i := range a.Len() {
+			if !alike(a.Index(i), b.Index(i)) {
+				return false
+			}
+		}
+		return true
+	case reflect.Struct:
+		for i := range a.NumField() {
+			if !alike(a.Field(i), b.Field(i)) {
+				return false
+			}
+		}
+		return true
+	}
+	return a.Equal(b)
 }
 
 // copied copies a value that consists of exported fields; every list in it gets this much room behind its end.
