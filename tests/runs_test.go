@@ -449,30 +449,6 @@ func TestCalmRoundsWithoutRoom(t *testing.T) {
 	}
 }
 
-// Calm rounds come to the end of every simulation, with what the sequential simulator has.
-func TestCalmRoundsComplete(t *testing.T) {
-	d := &draw{at: 101}
-	for i, m := range manyModels() {
-		for _, lazy := range []bool{false, true} {
-			w := impl.WldNew(m, lazy)
-			d.walk(m, lazy, manner(i)%manners, d.below(120), func(_ world, _ action, next world) { w = next })
-			w = impl.WldCalm(w, 140)
-			want := impl.SeqAll(m)
-			var log []record
-			for c, h := range w.Hosts {
-				log = append(log, w.Logs[c]...)
-				if h.Now != want.Comps[c] || len(h.Done)+len(h.Wait)+len(h.Anti)+len(h.Keep) > 0 {
-					t.Fatal(brief(w))
-				}
-			}
-			slices.SortFunc(log, func(a, b record) int { return itemInOrder(numbered(a.Ev, 0), numbered(b.Ev, 0)) })
-			if !slices.Equal(log, want.Log) || w.Bound != m.Until+1 || len(w.Net) > 0 {
-				t.Fatalf("%s\nnot %v", brief(w), want.Log)
-			}
-		}
-	}
-}
-
 // Promises 59 and 60.
 
 // grown says whether all committed records are still there, at the beginning of those that follow.
@@ -496,23 +472,6 @@ func TestCommitsArePermanent(t *testing.T) {
 			}
 		}
 	})
-}
-
-func TestCommittedRecordsAreThoseOfTheSequentialSimulator(t *testing.T) {
-	for i, m := range manyModels() {
-		d := &draw{at: uint64(107 + i)}
-		logs := make([][]record, len(m.Rules))
-		for _, r := range impl.SeqAll(m).Log {
-			logs[r.Ev.To] = append(logs[r.Ev.To], r)
-		}
-		for _, lazy := range []bool{false, true} {
-			d.walk(m, lazy, manner(i)%manners, 6*len(impl.SeqAll(m).Log), func(_ world, _ action, w world) {
-				if !grown(w, world{Logs: logs}) {
-					t.Fatalf("%s\nnot %v", brief(w), logs)
-				}
-			})
-		}
-	}
 }
 
 func TestRecordsGrowInCalmRounds(t *testing.T) {
@@ -601,7 +560,7 @@ func checkSingle(t *testing.T, d *draw, m model, lazy bool) {
 	want := impl.SeqAll(m).Log
 	w := impl.WldNew(m, lazy)
 	for steps := 0; ; steps++ {
-		before := processed(w)
+		before := processed(w, 0)
 		if len(before) > len(want) || !slices.Equal(before, want[:len(before)]) {
 			t.Fatalf("%s\nnot %v", brief(w), want)
 		}
@@ -610,25 +569,25 @@ func checkSingle(t *testing.T, d *draw, m model, lazy bool) {
 		}
 		w = impl.WldStep(w, []action{doing(0), doing(0), beginning, visiting, freeing(0)}[d.below(5)])
 		for len(w.Net) > 0 {
-			there := len(processed(w))
+			there := len(processed(w, 0))
 			w = impl.WldStep(w, hearing(0))
-			if h := w.Hosts[0]; len(processed(w)) != there || len(h.Anti)+len(h.Keep) > 0 {
+			if h := w.Hosts[0]; len(processed(w, 0)) != there || len(h.Anti)+len(h.Keep) > 0 {
 				t.Fatal(brief(w))
 			}
 		}
-		if len(processed(w)) < len(before) || steps > 1000 {
+		if len(processed(w, 0)) < len(before) || steps > 1000 {
 			t.Fatal(brief(w))
 		}
 	}
-	if !slices.Equal(processed(w), want) {
+	if !slices.Equal(processed(w, 0), want) {
 		t.Fatalf("%s\nnot %v", brief(w), want)
 	}
 }
 
-// processed are the records of the only host, committed or not.
-func processed(w world) []record {
-	log := slices.Clone(w.Logs[0])
-	for _, d := range w.Hosts[0].Done {
+// processed are the records of a host, committed or not.
+func processed(w world, c int) []record {
+	log := slices.Clone(w.Logs[c])
+	for _, d := range w.Hosts[c].Done {
 		log = append(log, record{Ev: d.It.Ev, S: d.S})
 	}
 	return log

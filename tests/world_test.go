@@ -11,9 +11,10 @@ import (
 
 // Promise 56: which simulations are valid, and what becomes of those that are not.
 
-// checkRefused fails unless an invalid simulation leads to the zero value, whatever is done to it.
+// checkRefused fails unless an invalid simulation leads to the zero value, whatever is done to it, and has no views.
 func checkRefused(t *testing.T, w world) {
 	t.Helper()
+	checkNoView(t, w)
 	results := []world{impl.WldRun(w, nil), impl.WldRun(w, []action{doing(0), visiting})}
 	for _, n := range []int{-1, 0, 1} {
 		results = append(results, impl.WldCalm(w, n))
@@ -26,9 +27,10 @@ func checkRefused(t *testing.T, w world) {
 	}
 }
 
-// checkAccepted fails unless a simulation is valid.
+// checkAccepted fails unless a simulation is valid and its views are as the document describes them.
 func checkAccepted(t *testing.T, w world) {
 	t.Helper()
+	checkView(t, w)
 	for _, next := range []world{impl.WldStep(w, action{}), impl.WldRun(w, nil), impl.WldCalm(w, 0)} {
 		if !impl.WldOk(w) || !same(next, w) {
 			t.Errorf("this is refused, or changes:\n%s", brief(w))
