@@ -121,11 +121,13 @@ func copied(value reflect.Value, room int) reflect.Value {
 	return got
 }
 
-// fill makes all numbers in a value ones that no test uses.
+// fill makes all numbers and texts in a value ones that no test uses.
 func fill(value reflect.Value) {
 	switch value.Kind() {
 	case reflect.Int:
 		value.SetInt(-7)
+	case reflect.String:
+		value.SetString("unused")
 	case reflect.Struct:
 		for i := range value.NumField() {
 			fill(value.Field(i))
