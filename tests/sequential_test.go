@@ -181,12 +181,16 @@ func TestSequentialSimulatorOfInvalidModel(t *testing.T) {
 
 // Promises 32 and 33: which simulators are valid.
 
-func TestSeqOkBoundsOfEveryNumber(t *testing.T) {
-	for _, f := range []struct {
-		name      string
-		of        func(*simulator) *int
-		low, high int
-	}{
+// simNumber names a number in someSim, how to reach it, and its bounds.
+type simNumber struct {
+	name string
+	of   func(*simulator) *int
+	low  int
+	high int
+}
+
+func simNumbers() []simNumber {
+	return []simNumber{
 		{"S", func(s *simulator) *int { return &s.Comps[0].S }, 0, 96},
 		{"Seq", func(s *simulator) *int { return &s.Comps[1].Seq }, 0, 12},
 		{"Count", func(s *simulator) *int { return &s.Comps[2].Count }, 0, math.MaxInt},
@@ -205,7 +209,11 @@ func TestSeqOkBoundsOfEveryNumber(t *testing.T) {
 		{"Data of a processed", func(s *simulator) *int { return &s.Log[1].Ev.Data }, 0, 96},
 		{"the first recorded state", func(s *simulator) *int { return &s.Log[0].S }, 0, 96},
 		{"the last recorded state", func(s *simulator) *int { return &s.Log[2].S }, 0, 96},
-	} {
+	}
+}
+
+func TestSeqOkBoundsOfEveryNumber(t *testing.T) {
+	for _, f := range simNumbers() {
 		for _, n := range []int{f.low, f.high} {
 			s := someSim()
 			*f.of(&s) = n
