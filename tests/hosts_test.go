@@ -90,6 +90,9 @@ func checkInvalid(t *testing.T, name string, s scene) {
 	if least := impl.HstLeast(s.M, s.Comp, s.H); least != -1 {
 		t.Errorf("%s has the least timestamp %d", name, least)
 	}
+	if list := impl.CkpSave(s.M, s.Comp, s.H, 1); len(list) != 0 {
+		t.Errorf("%s has the saved states %v", name, list)
+	}
 }
 
 // checkHosts fails unless all changed copies of someHost are valid, or invalid; a change is named by its number.
